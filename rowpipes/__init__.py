@@ -1,0 +1,1 @@
+"""Rowpipes: small programs over rows, and what shows that they fit."""

@@ -1,0 +1,25 @@
+"""The names of the interface are there, with their arguments."""
+
+import importlib
+import inspect
+import unittest
+
+INTERFACE = {
+    "cells": ("show_rows(rows)", "read_rows(text)"),
+    "sets": (
+        "common(one, other)", "either(one, other)", "less(one, other)", "has(told, cell)", "is_none(told)",
+        "lies_in(one, other)", "another(told, cell)", "show_set(told)", "read_set(text)"),
+}
+
+
+class Interface(unittest.TestCase):
+    def test_each_name_is_there_with_its_arguments(self):
+        for module, calls in INTERFACE.items():
+            home = importlib.import_module(f"rowpipes.{module}")
+            for call in calls:
+                name = call.partition("(")[0]
+                self.assertEqual(name + str(inspect.signature(getattr(home, name))), call)
+
+
+if __name__ == "__main__":
+    unittest.main()
