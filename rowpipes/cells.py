@@ -13,16 +13,11 @@ def is_number(cell):
 
 
 def is_word(text):
-    """Whether text, of anything, is a WORD."""
-    if not isinstance(text, str):
-        return False
     return 1 <= len(text) <= LONGEST_WORD and all([sign in LETTERS for sign in text])
 
 
 def is_number_text(text):
-    """Whether text, of anything, is a whole number as one is written."""
-    if not isinstance(text, str):
-        return False
+    """Whether the text is a whole number as one is written."""
     if text == "0":
         return True
     figures = text.removeprefix("-")

@@ -9,6 +9,9 @@ INTERFACE = {
     "sets": (
         "common(one, other)", "either(one, other)", "less(one, other)", "has(told, cell)", "is_none(told)",
         "lies_in(one, other)", "another(told, cell)", "show_set(told)", "read_set(text)"),
+    "kinds": ("is_of(kind, row)", "head_of(kind)", "show_kind(kind)", "read_kind(text)"),
+    "places": ("places(pipe)",),
+    "pipetexts": ("show_pipe(pipe)", "read_pipe(text)"),
 }
 
 
