@@ -12,6 +12,11 @@ def is_number(cell):
     return isinstance(cell, int) and not isinstance(cell, bool)
 
 
+def sort_of(cell):
+    """The sort of a cell: "n" or "w"."""
+    return "w" if isinstance(cell, str) else "n"
+
+
 def is_word(text):
     return 1 <= len(text) <= LONGEST_WORD and all([sign in LETTERS for sign in text])
 

@@ -4,7 +4,7 @@ Of numbers ("n", spans), of words ("w", True, words) or ("w", False, words).
 Spans lie apart and words are sorted, so sets with the same cells are equal.
 """
 
-from rowpipes.cells import LETTERS, is_number, read_number, read_word
+from rowpipes.cells import LETTERS, is_number, read_number, read_word, sort_of
 from rowpipes.errors import NoText
 
 
@@ -77,6 +77,21 @@ def either(one, other):
 def less(one, other):
     """The set of the cells that one has and other hasn't."""
     return common(one, rest_of(other))
+
+
+def just(cell):
+    """The set of this one cell."""
+    if sort_of(cell) == "n":
+        return ("n", ((cell, cell),))
+    return ("w", True, (cell,))
+
+
+def without(told, cells):
+    """The set of the cells that told has, but for these."""
+    left = told
+    for cell in cells:
+        left = less(left, just(cell))
+    return left
 
 
 def in_span(span, number):

@@ -12,6 +12,8 @@ INTERFACE = {
     "kinds": ("is_of(kind, row)", "head_of(kind)", "show_kind(kind)", "read_kind(text)"),
     "places": ("places(pipe)",),
     "pipetexts": ("show_pipe(pipe)", "read_pipe(text)"),
+    "heads": ("head_behind(head, pipe)", "is_loose(head, pipe, place)"),
+    "running": ("told(pipe, rows)",),
 }
 
 

@@ -104,6 +104,39 @@ class Language(unittest.TestCase):
             bound = bound_at_top(ast.parse(file.read_text()), drawn_too=True)
             self.assertEqual(len(bound), len(set(bound)), file.name)
 
+    def test_no_local_is_called_like_an_import_or_a_class(self):
+        for file in FILES:
+            tree = ast.parse(file.read_text())
+            taken = {node.name for node in tree.body if isinstance(node, ast.ClassDef)}
+            taken |= {drawn.name for node in tree.body if isinstance(node, ast.ImportFrom) for drawn in node.names}
+            for node in ast.walk(tree):
+                if isinstance(node, ast.arg):
+                    self.assertNotIn(node.arg, taken, file.name)
+                if isinstance(node, ast.Name) and isinstance(node.ctx, ast.Store):
+                    self.assertNotIn(node.id, taken, file.name)
+
+    def test_sets_are_made_where_they_may_be(self):
+        for file in FILES:
+            for node in nodes(file):
+                for inner in ast.iter_child_nodes(node):
+                    if is_set(inner):
+                        self.assertTrue(may_hold_set(node), (file.name, inner.lineno))
+
+
+def is_set(node):
+    if isinstance(node, ast.Call) and isinstance(node.func, ast.Name):
+        return node.func.id in ("set", "frozenset")
+    return isinstance(node, (ast.Set, ast.SetComp))
+
+
+def may_hold_set(node):
+    """Whether the node is sorted(..) or len(..), a comparison, a sign between sets, or a plain local's row."""
+    if isinstance(node, ast.Call):
+        return isinstance(node.func, ast.Name) and node.func.id in ("sorted", "len")
+    if isinstance(node, ast.Assign):
+        return len(node.targets) == 1 and isinstance(node.targets[0], ast.Name)
+    return isinstance(node, (ast.Compare, ast.BinOp))
+
 
 def names_in(node):
     if isinstance(node, ast.Name):

@@ -4,7 +4,7 @@ import itertools
 import unittest
 
 from rowpipes.errors import NoText
-from rowpipes.sets import another, common, either, has, is_none, less, lies_in, read_set, show_set
+from rowpipes.sets import another, common, either, has, is_none, just, less, lies_in, read_set, show_set, without
 
 NO_TEXTS = (None, 0, True, b"n:..", [], ["n:.."], (), ("n", ()), ("w", True, ()), {}, set(), object(), str)
 FAR = 10 ** 60
@@ -209,6 +209,20 @@ NOT_WRITTEN = (
     "w:red,*", "w:-red", "w:--", "w:red,", "w:,red", "w:,", "w:blue,,red", "w:blue, red", "w:Red", "w:1", "w:..",
     "w:abcdefghi", "w:*-abcdefghi", "w:a1", "w:red\n", "w:blue red", "n:.. w:*", "n:\u0663", "w:\u00e9", "w:blue;red",
 )
+
+
+class OneCell(unittest.TestCase):
+    def test_just_one_cell(self):
+        for cell, text in ((0, "n:0"), (-FAR, f"n:-{FAR}"), ("a", "w:a"), ("zzzzzzzz", "w:zzzzzzzz")):
+            self.assertEqual(show_set(just(cell)), text)
+
+    def test_without_some_cells(self):
+        self.assertEqual(show_set(without(read_set("n:1..5"), [2, 5, 9])), "n:1,3..4")
+        self.assertEqual(show_set(without(read_set("n:.."), [0])), "n:..-1,1..")
+        self.assertEqual(show_set(without(read_set("w:a,b"), ["b", "c"])), "w:a")
+        self.assertEqual(show_set(without(read_set("w:*-a"), ["b"])), "w:*-a,b")
+        for text in ("n:-", "n:1..2", "w:*", "w:a"):
+            self.assertEqual(show_set(without(read_set(text), [])), text)
 
 
 class Texts(unittest.TestCase):
