@@ -14,6 +14,8 @@ INTERFACE = {
     "pipetexts": ("show_pipe(pipe)", "read_pipe(text)"),
     "heads": ("head_behind(head, pipe)", "is_loose(head, pipe, place)"),
     "running": ("told(pipe, rows)",),
+    "coming": ("first_fall(kind, pipe)", "bringing(kind, pipe, place, row)"),
+    "papers": ("paper_of(kind, pipe)",),
 }
 
 
