@@ -12,3 +12,15 @@ def places(pipe):
             found.extend([(at, side) + inner for inner in places(branch)])
     found.append((len(pipe),))
     return found
+
+
+def worker_at(pipe, place):
+    """The worker at a place which the pipe has; None where that is an end."""
+    if len(place) > 1:
+        return worker_at(branches_of(pipe[place[0]])[place[1]], place[2:])
+    return pipe[place[0]] if place[0] < len(pipe) else None
+
+
+def place_behind(place):
+    """The place behind the worker at this one."""
+    return place[:-1] + (place[-1] + 1,)

@@ -106,16 +106,21 @@ def run_both(worker, rows, place):
     return run_pipe(worker[1], rows, place + (0,)) + run_pipe(worker[2], rows, place + (1,))
 
 
-def run_meet(worker, rows, place):
+def met_rows(worker, ones, others):
+    """The rows that a meet tells where its branches tell these."""
     column, other_column = worker[1], worker[2]
-    ones = run_pipe(worker[3], rows, place + (0,))
-    others = run_pipe(worker[4], rows, place + (1,))
     return [
         one + other[:other_column - 1] + other[other_column:]
         for one in ones
         for other in others
         if one[column - 1] == other[other_column - 1]
     ]
+
+
+def run_meet(worker, rows, place):
+    ones = run_pipe(worker[3], rows, place + (0,))
+    others = run_pipe(worker[4], rows, place + (1,))
+    return met_rows(worker, ones, others)
 
 
 RUNS = {

@@ -1,6 +1,6 @@
 """Whether a paper holds, looked at as points 15 to 17 say it, word by word, beside the program."""
 
-from rowpipes.heads import head_behind
+from rowpipes.heads import survey
 from rowpipes.places import places
 from rowpipes.sets import another, common, has, is_none, lies_in, rest_of
 
@@ -172,11 +172,9 @@ def takes_all(worker, way, states):
     return True
 
 
-def worker_holds(worker, place, told, head):
+def worker_holds(worker, place, told):
     ways, states = told[place]
     behind = told[place[:-1] + (place[-1] + 1,)][0]
-    if not all(is_way(way, head) for way in ways):
-        return False
     if worker[0] == "walk":
         if worker[2] not in states or list(states) != sorted(set(states)):
             return False
@@ -191,7 +189,7 @@ def worker_holds(worker, place, told, head):
     ends = []
     for side, branch in enumerate(worker[-2:]):
         inner = place + (side,)
-        if not all_within(ways, told[inner + (0,)][0]) or not branch_holds(branch, inner, told, head):
+        if not all_within(ways, told[inner + (0,)][0]) or not branch_holds(branch, inner, told):
             return False
         ends.append(told[inner + (len(branch),)][0])
     if worker[0] == "both":
@@ -199,19 +197,22 @@ def worker_holds(worker, place, told, head):
     return all(all_within(meet(worker, one, other), behind) for one in ends[0] for other in ends[1])
 
 
-def branch_holds(pipe, prefix, told, head):
+def branch_holds(pipe, prefix, told):
     for at, worker in enumerate(pipe):
-        if not worker_holds(worker, prefix + (at,), told, head_behind(head, pipe[:at])):
+        if not worker_holds(worker, prefix + (at,), told):
             return False
     ways, states = told[prefix + (len(pipe),)]
-    return states == () and all(is_way(way, head_behind(head, pipe)) for way in ways)
+    return states == ()
 
 
 def paper_holds(kind, pipe, paper):
     if [place for place, ways, states in paper] != places(pipe):
         return False
+    seen = survey(tuple(told_set[0] for told_set in kind), pipe)
+    if not all(is_way(way, head) for (place, ways, states), (there, head, loose) in zip(paper, seen) for way in ways):
+        return False
     told = {place: (ways, states) for place, ways, states in paper}
     first = (tuple(kind), tuple(("of", at) for at in range(len(kind))))
     if not all_within([first], told[(0,)][0]):
         return False
-    return branch_holds(pipe, (), told, tuple(told_set[0] for told_set in kind))
+    return branch_holds(pipe, (), told)

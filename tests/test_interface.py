@@ -16,6 +16,10 @@ INTERFACE = {
     "running": ("told(pipe, rows)",),
     "coming": ("first_fall(kind, pipe)", "bringing(kind, pipe, place, row)"),
     "papers": ("paper_of(kind, pipe)",),
+    "holding": ("holds(kind, pipe, paper)",),
+    "pieces": ("begun(pipe)", "fed(pipe, state, rows)", "ended(pipe, state)", "kept(pipe, state)"),
+    "facts": ("facts_at(kind, pipe, place)",),
+    "steps": ("stepped(kind, pipe, step)",),
 }
 
 
