@@ -164,6 +164,12 @@ def another(told, cell):
     return None
 
 
+def only(told):
+    """The one cell of the set; None where it has several, or none."""
+    cell = another(told, None)
+    return cell if another(told, cell) is None else None
+
+
 def show_end(number):
     return "" if number is None else str(number)
 

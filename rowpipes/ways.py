@@ -6,7 +6,7 @@ tuple of ("of", i) and ("is", cell) too, so that a choice from the sets makes
 cells of them. A way without rows is led like any other.
 """
 
-from rowpipes.sets import another, common, has, is_none, just, lies_in, without
+from rowpipes.sets import another, common, has, is_none, just, lies_in, only, without
 
 ANY = ("any",)
 
@@ -255,10 +255,7 @@ def choice_for(way, row):
 
 def one_cell(way, entry):
     """The one cell that a column, no ("any",), has in all rows of the way; None where it has several."""
-    if entry[0] == "is":
-        return entry[1]
-    cell = another(way[0][entry[1]], None)
-    return cell if another(way[0][entry[1]], cell) is None else None
+    return entry[1] if entry[0] == "is" else only(way[0][entry[1]])
 
 
 def column_lies_in(way, entry, other, wanted):

@@ -20,6 +20,10 @@ INTERFACE = {
     "pieces": ("begun(pipe)", "fed(pipe, state, rows)", "ended(pipe, state)", "kept(pipe, state)"),
     "facts": ("facts_at(kind, pipe, place)",),
     "steps": ("stepped(kind, pipe, step)",),
+    "shorter": ("counted(pipe)", "shorter(kind, pipe)"),
+    "trees": ("follows(kind, one, other, tree)",),
+    "alike": ("compared(kind, one, other)",),
+    "desk": ("Desk()",),
 }
 
 
@@ -30,6 +34,10 @@ class Interface(unittest.TestCase):
             for call in calls:
                 name = call.partition("(")[0]
                 self.assertEqual(name + str(inspect.signature(getattr(home, name))), call)
+
+    def test_the_desk_has_its_method(self):
+        home = importlib.import_module("rowpipes.desk")
+        self.assertEqual(str(inspect.signature(home.Desk().say)), "(row)")
 
 
 if __name__ == "__main__":
