@@ -101,8 +101,8 @@ def leaf_holds(sets, one, other):
     if any([is_none(told) for told in sets]):
         return True
     ones, others = go_through(one, sets), go_through(other, sets)
-    if ones == OUT or others == OUT:
-        return ones == others
+    if ones == OUT and others == OUT:
+        return True
     if ones[0] != "told" or others[0] != "told" or len(ones[1]) != len(others[1]):
         return False
     return first_unlike(sets, ones[1], others[1]) is None

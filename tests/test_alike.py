@@ -189,7 +189,9 @@ class Many(unittest.TestCase):
             self.assertTrue(follows(kind, read_pipe(one), read_pipe(other), found[1]))
         for one, other in (
                 (two, f"turn 3 {EIGHT}"), (f"turn 3 {EIGHT}", two), (f"{two} | turn 3 {EIGHT}", "all"), ("all", f"{two} | turn 3 {EIGHT}"),
-                (f"turn 1 {EIGHT} | turn 2 {EIGHT}", f"turn 3 {FOUR}")):
+                (f"turn 1 {EIGHT} | turn 2 {EIGHT}", f"turn 3 {FOUR}"),
+                # one leaf for the rows that are left out, two hundred for the others
+                (f"keep 4 n:1.. | {two} | turn 3 {SEVEN}", f"keep 4 n:1.. | {two} | turn 3 {SEVEN}")):
             with self.assertRaises(TooMany, msg=(one, other)):
                 verdict(ENDLESS, one, other)
 
@@ -280,7 +282,8 @@ class Refused(unittest.TestCase):
             self.assertEqual(self.refusal(Falling, N, one, other).place, place)
 
     def test_what_is_handed_in_stays_and_what_is_told_is_the_askers_own(self):
-        for kind_text, one_text, other_text in ALIKE + tuple(case[:3] for case in PARTED) + ((N, "sort 1 | sort 1", "apart | sort 1"), (N, "sort 1 | sort 1", "sort 1")):
+        by_steps = ((N, "sort 1 | sort 1", "apart | sort 1"), (N, "sort 1 | sort 1", "sort 1"))
+        for kind_text, one_text, other_text in ALIKE + tuple(case[:3] for case in PARTED) + by_steps:
             kind, one, other = read_kind(kind_text), read_pipe(one_text), read_pipe(other_text)
             found = compared(kind, one, other)
             self.assertEqual((kind, one, other), (read_kind(kind_text), read_pipe(one_text), read_pipe(other_text)))

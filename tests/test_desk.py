@@ -212,7 +212,8 @@ class Refused(unittest.TestCase):
             self.refusal(NoLine, row)
 
     def test_no_line_is_ahead_of_unknown(self):
-        for row in ("run z 1", "run z 1 2", "run z a", "run z 1 a; 2 2", "show z z", "show z ", "like z", "like z B", "run z", "run z  1 a", "count z 1"):
+        for row in ("run z 1", "run z 1 2", "run z a", "run z 1 a; 2 2", "show z z", "show z ", "like z", "like z B", "run z",
+                    "run z  1 a", "count z 1"):
             self.refusal(NoLine, row)
 
     def test_unknown(self):

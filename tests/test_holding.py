@@ -356,7 +356,7 @@ NO_SETS = (
     ("n", True, ((1, 3),)), ("x", ((1, 3),)), (None, ((1, 3),)), ("w", 1, ("a",)), ("w", None, ("a",)), ("w", True, ("b", "a")),
     ("w", True, ("a", "a")), ("w", True, ["a"]), ("w", True, "a"), ("w", True, ("A",)), ("w", True, ("",)),
     ("w", True, ("abcdefghi",)), ("w", True, (1,)), ("w", True, ([],)), ("w", True, (None,)), ("w", ("a",)), ("w", ((1, 3),)),
-    ("w", True, ("a",), ()), ["w", True, ("a",)], ("w", False, ("b", "a")))
+    ("w", True, ("a",), ()), ["w", True, ("a",)], ("w", False, ("b", "a")), ("x", True, ("a",)), ("n", True, ("a",)), (None, True, ("a",)))
 
 NO_ENTRIES = (
     None, 0, "of", (), ("of",), ("of", 0, 0), ["of", 0], ("of", 2), ("of", 99), ("of", -1), ("of", -2), ("of", "0"), ("of", None),
